@@ -1,0 +1,1 @@
+"""Readagain: values written by formats, and read back."""
