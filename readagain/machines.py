@@ -49,12 +49,3 @@ def place_by(row, item):
     if row[0] == "sign" and row[1] == item:
         return row[2]
     return None
-
-
-def followers(row):
-    """The numbers of the places directly behind one."""
-    if row[0] == "marks":
-        return [behind for _, behind in row[1]]
-    if row[0] == "sign":
-        return [row[2]]
-    return []
