@@ -63,7 +63,8 @@ class Bounds:
 
 def figures_draft(sort, format):
     """The draft of integers in figures."""
-    return explored("", START, FigureSteps(sort, format).edges)
+    steps = FigureSteps(sort, format)
+    return explored("", START, steps.edges)
 
 
 class FigureSteps:
@@ -148,7 +149,8 @@ class FigureSteps:
 
 def powers_draft(sort, format):
     """The draft of integers as multiples of powers."""
-    return explored("", START, PowerSteps(sort, format).edges)
+    steps = PowerSteps(sort, format)
+    return explored("", START, steps.edges)
 
 
 class PowerSteps:
