@@ -55,7 +55,7 @@ def sources_of(nodes):
 def live_nodes(nodes):
     """The dict of the nodes from which an end is come to."""
     sources = sources_of(nodes)
-    live = {node: True for node, edges in enumerate(nodes) if edges is None}
+    live = {end: True for end, edges in enumerate(nodes) if edges is None}
     waiting = list(live)
     while waiting:
         node = waiting.pop()
@@ -132,7 +132,7 @@ class Partition:
                     for source in self.sources[node]:
                         touched[source] = True
                 self.members.append(moved)
-        return [node for node in touched if node in self.classes]
+        return [again for again in touched if again in self.classes]
 
     def pieces_to_move(self, number, pieces):
         """Leave the greatest piece in the class, and tell the others."""
@@ -140,19 +140,19 @@ class Partition:
         for piece in pieces:
             for node in piece:
                 looked_at[node] = True
-        rest = [node for node in self.members[number] if node not in looked_at]
+        rest = [member for member in self.members[number] if member not in looked_at]
         if rest:
             pieces = pieces + [rest]
         greatest = max(pieces, key=len)
         self.members[number] = greatest
-        return [piece for piece in pieces if piece[0] != greatest[0]]
+        return [moved for moved in pieces if moved[0] != greatest[0]]
 
 
 def count_places(draft):
     """How many places the machine of a reduced draft has."""
     text, nodes = draft
-    tails = {(text[at:], 0): True for at in range(len(text))}
-    for edges in nodes:
+    tails = {}
+    for edges in nodes + [[("", text, 0)]]:
         for _, written, behind in edges or []:
             for at in range(len(written)):
                 tails[(written[at:], behind)] = True
@@ -172,4 +172,4 @@ def count_far_nodes(draft, many):
             if key not in seen:
                 seen[key] = True
                 waiting.append(key)
-    return len([key for key in seen if key[1] == many])
+    return len([come for come in seen if come[1] == many])

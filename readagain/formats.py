@@ -119,7 +119,7 @@ def is_spelled(_, thing):
     for pair in pairs:
         if not is_pair(pair) or not is_sign(pair[0]) or not is_text(pair[1], 1, 4):
             return False
-    return are_ascending([pair[0] for pair in pairs])
+    return are_ascending([sign for sign, _ in pairs])
 
 
 def is_quoted(_, thing):

@@ -93,12 +93,12 @@ def links_from(ways, other_ways, pair):
 
 def leading_to_ends(machine, other, found):
     """The dict of the pairs from which a pair of two ends can be come to."""
-    sources = {pair: [] for pair in found}
+    sources = {linked: [] for linked in found}
     for pair, row in found.items():
         for link in row:
             sources[link[3]].append(pair)
     useful = {}
-    waiting = [pair for pair in found if machine[pair[0]][0] == "end" and other[pair[1]][0] == "end"]
+    waiting = [(one, two) for one, two in found if machine[one][0] == "end" and other[two][0] == "end"]
     while waiting:
         pair = waiting.pop()
         if pair not in useful:

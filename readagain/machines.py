@@ -21,7 +21,7 @@ def machine_of(sort, format):
         elif nodes[node] is None:
             places.append(("end",))
         else:
-            places.append(("marks", tuple([(mark, numbers[key]) for mark, key in edges])))
+            places.append(("marks", tuple([(mark, numbers[behind]) for mark, behind in edges])))
     return tuple(places)
 
 

@@ -14,7 +14,7 @@ def cheapest_ways(starts, steps_from):
     of (key behind, way to it, how many signs that takes: 0 or 1).
     """
     ways = {}
-    waiting = {many: list(row) for many, row in starts.items()}
+    waiting = {ahead: list(begun) for ahead, begun in starts.items()}
     many = 0
     while waiting:
         level = waiting.pop(many, [])
@@ -86,7 +86,7 @@ def ways_to_pairs(machine):
     The first key of such a way is a place, behind it stands the pair of the marks.
     """
     ways = ways_to_places(machine)
-    many_signs = {place: len(text_of(row_to(ways, place))) for place in ways}
+    many_signs = {reached: len(text_of(row_to(ways, reached))) for reached in ways}
     starts = {}
     for place, lesser, greater in marks_apart(machine):
         way = (place, ((lesser[0],), (greater[0],)))
@@ -106,6 +106,6 @@ def rows_to(machine, ways, pair):
         pieces.append(items)
     pieces.reverse()
     ahead = row_to(ways_to_places(machine), key)
-    one = [item for items in pieces for item in items[0]]
-    other = [item for items in pieces for item in items[1]]
+    one = [item for piece in pieces for item in piece[0]]
+    other = [item for piece in pieces for item in piece[1]]
     return (ahead + tuple(one), ahead + tuple(other))

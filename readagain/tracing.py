@@ -77,7 +77,7 @@ def useful_edges(machine, track, text):
     """
     useful = {}
     for signs in reversed(range(len(track))):
-        rows = {place: machine[place] for place in track[signs]}
+        rows = {reached: machine[reached] for reached in track[signs]}
         waiting = []
         for place, row in rows.items():
             if row[0] == "end" and signs == len(text):
@@ -94,7 +94,7 @@ def useful_edges(machine, track, text):
 
 def come_from(rows, places):
     """All places with marks from which marks lead to some places."""
-    sources = {place: [] for place in rows}
+    sources = {reached: [] for reached in rows}
     for place, row in rows.items():
         if row[0] == "marks":
             for _, behind in row[1]:
@@ -120,13 +120,13 @@ def add_mark_edges(useful, rows, signs):
 
 def order_of_keys(useful):
     """The keys in an order in which each stands behind those to which it leads; None if there is a ring."""
-    sources = {key: [] for key in useful}
+    sources = {reached: [] for reached in useful}
     left = {}
     for key, edges in useful.items():
         left[key] = len(edges)
         for _, behind in edges:
             sources[behind].append(key)
-    order = [key for key in useful if left[key] == 0]
+    order = [last for last in useful if left[last] == 0]
     at = 0
     while at < len(order):
         key = order[at]

@@ -33,10 +33,10 @@ def is_closed(machine, thing):
     """Whether a thing is a tuple of pairs of places by which no two ends can be come to."""
     if not isinstance(thing, tuple):
         return False
-    if not all(is_place_pair(machine, pair) for pair in thing):
+    if not all(is_place_pair(machine, part) for part in thing):
         return False
-    pairs = {pair: True for pair in thing}
-    if not all(pair in pairs for pair in first_pairs(machine)):
+    pairs = {part: True for part in thing}
+    if not all(first in pairs for first in first_pairs(machine)):
         return False
     for pair in thing:
         if machine[pair[0]][0] == "end" and machine[pair[1]][0] == "end":
