@@ -150,6 +150,9 @@ def build_many(sort, format, cap, far):
     """Values between texts. A key (many, None) stands ahead of more, or of the stop."""
     empty, opening, between, closing = format[1:5]
     least, most = sort[2:]
+    if most == 0:
+        # What is never come to is not built: it may be as large as it likes.
+        return choice([("stop", text_draft(empty))])
     top = max(1, least)
     first_text, nodes = drafts_within(sort, format, cap, far)[0]
 

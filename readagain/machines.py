@@ -45,7 +45,9 @@ def place_behind(machine, items):
 def place_by(row, item):
     """The number of the place behind an item, None if it can't follow."""
     if row[0] == "marks":
-        return dict(row[1]).get(item)
+        for mark, behind in row[1]:
+            if mark == item:
+                return behind
     if row[0] == "sign" and row[1] == item:
         return row[2]
     return None

@@ -205,6 +205,14 @@ class Sizes(unittest.TestCase):
         self.assertEqual(machine_of(INT, ("cut", 0, inner)), machine_of(INT, ("cut", 0, FIGURES)))
         Machines().looks_right(random.Random(9), INT, ("cut", 3, inner))
 
+    def test_what_is_never_come_to_counts_for_nothing(self):
+        sort, format = self.MORE[0]
+        empty = ("many", sort, 0, 0)
+        told = (("marks", (("stop", 1),)), ("sign", "a", 2), ("end",))
+        for wrapped in (format, ("cut", 3, format), ("checked", 7, 2, format), ("pad", 8, "0", "<", format)):
+            self.assertEqual(machine_of(empty, ("many", "a", "", "", "", wrapped)), told)
+        self.assertEqual(len(machine_of(("row", (empty, WORD)), ("skip",))), 5)
+
     def test_ahead_of_other_errors(self):
         sort, format = self.MORE[0]
         for asked in (lambda: verdict(sort, format), lambda: read(sort, format, "x"), lambda: read(sort, format, None),
