@@ -34,7 +34,11 @@ def edges_from(rest, edges, node):
 
 def place_behind(machine, items):
     """The place to which items lead, None if no score begins with them."""
-    place = 0
+    return place_from(machine, 0, items)
+
+
+def place_from(machine, place, items):
+    """The place to which items lead from a place, None if they can't follow there."""
     for item in items:
         place = place_by(machine[place], item)
         if place is None:

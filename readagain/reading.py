@@ -3,20 +3,22 @@
 from readagain.errors import BadText, ManyValues, TooLarge
 from readagain.machines import machine_of
 from readagain.scores import value_of
-from readagain.tracing import extended, first_layer, has_end, rows_of, signs_behind
+from readagain.tracing import extended, first_layer, has_end, rows_of, signs_behind, track_of
 
 MOST_VALUES = 1000
 
 
 def read(sort, format, text):
     """The value with a text."""
-    scanner = Scanner(sort, format)
-    if not isinstance(text, str):
-        raise BadText(0)
-    scanner.feed(text)
-    if not scanner.can_end():
-        raise BadText(scanner.size)
-    rows = scanner.rows(1)
+    return value_read(sort, format, machine_of(sort, format), text)
+
+
+def value_read(sort, format, machine, text):
+    """The value with a text, by the machine of the format."""
+    track = track_of(machine, text)
+    if not has_end(machine, track[-1]):
+        raise BadText(len(text))
+    rows = rows_of(machine, track, text, 1)
     if rows is None or isinstance(rows, int):
         raise ManyValues(text)
     return value_of(sort, format, rows[0])
@@ -64,13 +66,9 @@ class Scanner:
 
     def readings(self):
         """The list of all values with the text, by their scores; None for endless many."""
-        rows = self.rows(MOST_VALUES)
+        rows = rows_of(self._machine, self._track, self._text, MOST_VALUES)
         if rows is None:
             return None
         if isinstance(rows, int):
             raise TooLarge(MOST_VALUES)
         return [value_of(self._kept_sort, self._kept_format, row) for row in rows]
-
-    def rows(self, most):
-        """The scores with the text; None for endless many, a number for more than most."""
-        return rows_of(self._machine, self._track, self._text, most)

@@ -4,7 +4,9 @@ A layer is the dict of all places to which items lead whose signs are the beginn
 with so many signs. A track is the list of the layers of a text, one more than it has signs.
 """
 
+from readagain.errors import BadText
 from readagain.pairing import items_behind
+from readagain.walks import ordered_keys
 
 
 def first_layer(machine):
@@ -54,37 +56,58 @@ def extended(machine, layer, text):
     return layers
 
 
+def track_of(machine, text):
+    """The track of a text; BadText if no text that is written begins with it."""
+    if not isinstance(text, str):
+        raise BadText(0)
+    layer = first_layer(machine)
+    layers = extended(machine, layer, text)
+    if len(layers) < len(text):
+        raise BadText(len(layers))
+    return [layer] + layers
+
+
 def rows_of(machine, track, text, most):
     """All scores with the text, ascending; None for endless many, and a number for more than most.
 
     The number is how many there are.
     """
-    useful = useful_edges(machine, track, text)
-    order = order_of_keys(useful)
-    if order is None:
+    ends = [place for place in track[-1] if machine[place][0] == "end"]
+    return rows_along(useful_edges(machine, track, text, ends), most)
+
+
+def rows_along(useful, most):
+    """All rows of items along edges from (0, 0) to where nothing follows, as rows_of."""
+    order = ordered_keys(useful)
+    if len(order) < len(useful):
         return None
     counts = {}
     for key in order:
-        counts[key] = sum([counts[behind] for _, behind in useful[key]]) if useful[key] else 1
+        counts[key] = sum([counts[behind] for behind, _ in useful[key]]) if useful[key] else 1
     many = counts.get((0, 0), 0)
     return many if many > most else listed_rows(useful)
 
 
-def useful_edges(machine, track, text):
-    """The dict of the keys (signs behind, place) on ways to an end behind the whole text.
+def only_row(machine, text):
+    """The score with a text that is known to be the text of one score."""
+    return rows_of(machine, track_of(machine, text), text, 1)[0]
 
-    To each key belongs the tuple of its edges (item, key behind); the end has none.
+
+def useful_edges(machine, track, text, goals):
+    """The dict of the keys (signs behind, place) on ways to the goals, places behind the whole text.
+
+    To each key belongs the tuple of its edges (key behind, item).
     """
     useful = {}
     for signs in reversed(range(len(track))):
         rows = {reached: machine[reached] for reached in track[signs]}
         waiting = []
         for place, row in rows.items():
-            if row[0] == "end" and signs == len(text):
+            if signs == len(text) and place in goals:
                 useful[(signs, place)] = ()
                 waiting.append(place)
             elif row[0] == "sign" and text[signs:signs + 1] == row[1] and (signs + 1, row[2]) in useful:
-                useful[(signs, place)] = ((row[1], (signs + 1, row[2])),)
+                useful[(signs, place)] = (((signs + 1, row[2]), row[1]),)
                 waiting.append(place)
         for place in come_from(rows, waiting):
             useful[(signs, place)] = ()
@@ -114,32 +137,12 @@ def add_mark_edges(useful, rows, signs):
     """Put the edges by marks to the keys of a layer."""
     for place, row in rows.items():
         if row[0] == "marks" and (signs, place) in useful:
-            edges = [(mark, (signs, behind)) for mark, behind in items_behind(row)]
-            useful[(signs, place)] = tuple([edge for edge in edges if edge[1] in useful])
-
-
-def order_of_keys(useful):
-    """The keys in an order in which each stands behind those to which it leads; None if there is a ring."""
-    sources = {reached: [] for reached in useful}
-    left = {}
-    for key, edges in useful.items():
-        left[key] = len(edges)
-        for _, behind in edges:
-            sources[behind].append(key)
-    order = [last for last in useful if left[last] == 0]
-    at = 0
-    while at < len(order):
-        key = order[at]
-        at += 1
-        for source in sources[key]:
-            left[source] -= 1
-            if left[source] == 0:
-                order.append(source)
-    return order if len(order) == len(useful) else None
+            edges = [((signs, behind), mark) for mark, behind in items_behind(row)]
+            useful[(signs, place)] = tuple([edge for edge in edges if edge[0] in useful])
 
 
 def listed_rows(useful):
-    """All rows of items along the edges, ascending, from the beginning to an end."""
+    """All rows of items along the edges, ascending, from the beginning to where nothing follows."""
     rows = []
     items = []
     waiting = [(0, "", (0, 0))] if (0, 0) in useful else []
@@ -149,6 +152,6 @@ def listed_rows(useful):
         items.append(item)
         if not useful[key]:
             rows.append(tuple(items[1:]))
-        for edge in reversed(useful[key]):
-            waiting.append((many + 1, edge[0], edge[1]))
+        for behind, next_item in reversed(useful[key]):
+            waiting.append((many + 1, next_item, behind))
     return rows

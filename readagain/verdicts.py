@@ -1,9 +1,9 @@
 """Whether each value can be told from its text, and what shows it."""
 
+from readagain.judging import is_closed_tuple, is_place_pair
 from readagain.machines import machine_of
-from readagain.pairing import marks_apart, pair_steps, rows_to, ways_to_pairs
+from readagain.pairing import end_of, is_end, marks_apart, pair_steps, rows_to, starts_apart, ways_to_pairs
 from readagain.scores import value_of
-from readagain.signs import is_number, is_pair
 from readagain.sorts import is_value
 from readagain.writing import write
 
@@ -21,34 +21,30 @@ def pairs_behind(machine, pair):
 def verdict(sort, format):
     """Readable and all pairs that are first or follow, or twins and two values with one text."""
     machine = machine_of(sort, format)
-    ways = ways_to_pairs(machine)
-    end = machine.index(("end",))
-    if (end, end) not in ways:
+    ways = ways_to_pairs(machine, starts_apart(machine))
+    ends = (end_of(machine), end_of(machine))
+    if ends not in ways:
         return ("readable", tuple(sorted(ways)))
-    one, other = rows_to(machine, ways, (end, end))
+    one, other = rows_to(machine, ways, ends)
     return ("twins", value_of(sort, format, one), value_of(sort, format, other))
+
+
+def is_readable(machine):
+    """Whether all values can be told from their texts."""
+    return (end_of(machine), end_of(machine)) not in ways_to_pairs(machine, starts_apart(machine))
 
 
 def is_closed(machine, thing):
     """Whether a thing is a tuple of pairs of places by which no two ends can be come to."""
-    if not isinstance(thing, tuple):
-        return False
-    if not all(is_place_pair(machine, part) for part in thing):
-        return False
-    pairs = {part: True for part in thing}
-    if not all(first in pairs for first in first_pairs(machine)):
-        return False
-    for pair in thing:
-        if machine[pair[0]][0] == "end" and machine[pair[1]][0] == "end":
-            return False
-        if not all(behind in pairs for behind in pairs_behind(machine, pair)):
-            return False
-    return True
+    def is_key(part):
+        return is_place_pair(machine, machine, part)
 
+    def keys_behind(pair):
+        return pairs_behind(machine, pair)
 
-def is_place_pair(machine, thing):
-    """Whether a thing is a pair of places of a machine."""
-    return is_pair(thing) and all(is_number(place, 0, len(machine) - 1) for place in thing)
+    def is_wrong(pair):
+        return is_end(machine, pair[0]) and is_end(machine, pair[1])
+    return is_closed_tuple(thing, is_key, first_pairs(machine), keys_behind, is_wrong)
 
 
 def are_twins(sort, format, one, other):
