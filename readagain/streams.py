@@ -44,6 +44,10 @@ class RowPairs:
         early = reached(pairs_apart(self.machine), self.early_steps)
         return sorted([pair for pair in early if is_end(self.machine, pair[0])])
 
+    def late_edges(self):
+        """The edges of all late pairs."""
+        return reached(self.first_late(), self.steps)
+
     def staged_steps(self, key):
         """What follows a pair and whether it is a late one."""
         pair, is_late = key
@@ -63,14 +67,13 @@ def lookahead(sort, format):
     machine = machine_of(sort, format)
     check_no_text_is_empty(sort, format)
     pairs = RowPairs(machine)
-    first = pairs.first_late()
-    late = reached(first, pairs.steps)
+    late = pairs.late_edges()
     order = ordered_keys(late)
     if len(order) < len(late):
         back, loops = loops_in(machine, late, order)
         return ("endless", pairs.rows_to_late(back), loops)
     table = greatest_costs(late, order)
-    return ("known", max([table[pair] + 1 for pair in first], default=0), table)
+    return ("known", max([table[pair] + 1 for pair in pairs.first_late()], default=0), table)
 
 
 def loops_in(machine, late, order):
@@ -143,11 +146,13 @@ class RowReader:
     """
 
     def __init__(self, sort, format):
-        if lookahead(sort, format)[0] == "endless":
-            raise BadFormat(format)
         self._kept_sort = sort
         self._kept_format = format
         self._machine = machine_of(sort, format)
+        check_no_text_is_empty(sort, format)
+        late = RowPairs(self._machine).late_edges()
+        if len(ordered_keys(late)) < len(late):
+            raise BadFormat(format)
         self._layer = row_layer(self._machine, {0: ()}, 0)
         self._left = ""
         self._values = []
