@@ -30,7 +30,18 @@ INTERFACE = {
     "sorts": "check_sort is_sort is_value how_many_values", "formats": "check_format is_format plain_format",
     "writing": "write", "scores": "spelling unspelled score value_of is_mark text_of marks_of",
     "machines": "machine_of place_behind", "verdicts": "first_pairs pairs_behind verdict is_closed are_twins",
-    "reading": "read values_of Scanner", "spans": "part_at with_part spans replaced", "linking": "starts links"}
+    "reading": "read values_of Scanner", "spans": "part_at with_part spans replaced", "linking": "starts links",
+    "alike": "do_spell_alike compared shows_alike shows_unlike", "meeting": "meeting keeps_apart do_meet",
+    "widths": "widths_of with_widths least_widths are_least_widths least_between is_least_between",
+    "counting": "lengths how_many number_of value_at", "alone": "standing stands_alone does_begin",
+    "streams": "written_row lookahead shows_known shows_endless RowReader",
+    "resync": "lot_steps resync shows_settled shows_lost",
+    "slips": "slips rules_out_fewer differ_in swaps keeps_swaps_out are_swapped",
+    "nearest": "changes_between nearest no_nearer is_nearest", "mending": "corrected is_sure fitting lost_at",
+    "sure": "sure_marks sure_parts sure_text Rewriter rewritten"}
+CLASSES = {
+    ("reading", "Scanner"): ("feed can_end next_signs readings", "size"),
+    ("streams", "RowReader"): ("feed can_end rest", "size told"), ("sure", "Rewriter"): ("feed end", "out")}
 
 
 def functions_of(tree):
@@ -148,9 +159,12 @@ class Language(unittest.TestCase):
         for name, words in INTERFACE.items():
             defined = {node.name for node in self.trees[name].body if isinstance(node, (ast.FunctionDef, ast.ClassDef))}
             self.assertLessEqual(set(words.split()), defined)
-        scanner = [node for node in self.trees["reading"].body if isinstance(node, ast.ClassDef) and node.name == "Scanner"]
-        methods = {node.name for node in scanner[0].body if isinstance(node, ast.FunctionDef)}
-        self.assertLessEqual({"feed", "can_end", "next_signs", "readings"}, methods)
+        for (name, word), (methods, attributes) in CLASSES.items():
+            found = [node for node in self.trees[name].body if isinstance(node, ast.ClassDef) and node.name == word]
+            defined = {node.name: node for node in found[0].body if isinstance(node, ast.FunctionDef)}
+            self.assertLessEqual(set(methods.split()), set(defined))
+            stored = {node.attr for node in ast.walk(defined["__init__"]) if isinstance(node, ast.Attribute) and isinstance(node.ctx, ast.Store)}
+            self.assertLessEqual(set(attributes.split()), stored)
 
     def test_functions(self):
         for name, tree in self.each():
