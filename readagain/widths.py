@@ -63,11 +63,10 @@ def put_widths(format, widths, at):
 
 def widened(format, most):
     """The list of (widths, format with them) for all widths up to the most, by their sum."""
-    many = len(widths_of(format))
-    if not is_number(most, 0, GREATEST_WIDTH) or not 1 <= many <= 3:
+    if not is_number(most, 0, GREATEST_WIDTH):
         raise BadThing(most)
     rows = [()]
-    for _ in range(many):
+    for _ in widths_of(format):
         rows = [row + (width,) for row in rows for width in range(most + 1)]
     return [(widths, with_widths(format, widths)) for widths in sorted(rows, key=sum)]
 

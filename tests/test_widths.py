@@ -147,10 +147,15 @@ class LeastWidths(unittest.TestCase):
                 self.assertEqual(caught.exception.thing, most)
 
     def test_other_numbers_of_pads(self):
-        for format in (FIGURES, ("pad", 1, "a", "<", ("pad", 1, "a", "<", ("pad", 1, "a", "<", PADDED)))):
-            with self.assertRaises(BadThing) as caught:
-                least_widths(DIGITS, format, 2)
-            self.assertEqual(caught.exception.thing, 2)
+        told = least_widths(DIGITS, FIGURES, 2)
+        self.assertEqual(told, ((), verdict(DIGITS, FIGURES)[1], ()))
+        self.assertIs(are_least_widths(DIGITS, FIGURES, 2, told), True)
+        self.assertIs(are_least_widths(DIGITS, FIGURES, 2, (None, None, ())), False)
+        told = least_widths(DIGITS, ("cut", 1, FIGURES), 2)
+        self.assertEqual((told[:2], told[2][0][0], len(told[2])), ((None, None), (), 1))
+        four = ("row", tuple((at, ("pad", 1, "0", ">", FIGURES)) for at in range(4)))
+        sort = ("row", (("int", 0, 9),) * 3 + (("int", 0, 20),))
+        self.assertEqual(least_widths(sort, four, 2)[0], (0, 0, 0, 0))
 
     def test_too_large(self):
         huge = ("pad", 1, "0", ">", HUGE)
