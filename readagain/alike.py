@@ -136,10 +136,8 @@ def shows_alike(sort, one, other, thing):
 
 
 def is_surplus(thing):
-    """Whether a thing is what one of two texts has more."""
-    if not is_pair(thing) or not is_integer(thing[0]) or not isinstance(thing[1], str):
-        return False
-    return thing[0] == 0 and thing[1] == "" or (thing[0] == 1 or thing[0] == 2) and thing[1] != ""
+    """Whether a thing has the kind of a surplus: a number and a text."""
+    return is_pair(thing) and is_integer(thing[0]) and isinstance(thing[1], str)
 
 
 def shows_unlike(sort, one, other, thing):

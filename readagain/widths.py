@@ -148,5 +148,5 @@ def are_named_twins(sort, name, format, thing):
 def is_same_name(name, thing):
     """Whether a thing is the same text, or the same tuple of integers."""
     if isinstance(name, str):
-        return isinstance(thing, str) and thing == name
+        return thing == name
     return isinstance(thing, tuple) and all(is_integer(part) for part in thing) and thing == name

@@ -209,6 +209,8 @@ class WidthJudges(unittest.TestCase):
         self.assertIs(are_least_widths(PRICE, TIGHT, 0, (None, None, twins)), False)
         self.assertIs(are_least_widths(PRICE, TIGHT, 0, (None, None, twins[:1])), True)
         self.assertIs(are_least_widths(PRICE, TIGHT, 0, (None, (), twins[:1])), False)
+        for name in ((1,), (2,), (), 0, "", False, (9,)):
+            self.assertIs(are_least_widths(PRICE, TIGHT, 0, (name, None, twins[:1])), False)
 
     def test_truth_values_for_integers(self):
         sort = ("row", (("int", 0, 1), ("int", 0, 1)))
