@@ -32,7 +32,7 @@ def lot_steps(machine, lot):
 
 def is_settled(machine, lot):
     """Whether a lot has ends alone."""
-    return len(lot) > 0 and all(is_end(machine, place) for place in lot)
+    return all(is_end(machine, place) for place in lot)
 
 
 def unsettled_edges(machine):

@@ -42,7 +42,7 @@ class RowPairs:
     def first_late(self):
         """The early pairs whose first place is an end."""
         early = reached(pairs_apart(self.machine), self.early_steps)
-        return sorted([pair for pair in early if is_end(self.machine, pair[0])])
+        return [pair for pair in early if is_end(self.machine, pair[0])]
 
     def late_edges(self):
         """The edges of all late pairs."""

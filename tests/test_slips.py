@@ -358,7 +358,7 @@ class SwapJudges(unittest.TestCase):
         self.assertIs(keeps_swaps_out(machine, told + (((end, end), "done"),)), False)
         for thing in list(ODD_THINGS) + list(lists_for_tuples(told)) + [
                 told + (((end, end), "aa"),), told + (((end, end), "a"),), told + (((end, end), "don"),), told + (((end, end), ("a", "b")),),
-                told + ((end, end, ""),), told + (((end, 99), ""),), told + (((end,), ""),), told + (((end, end), "\u25a1a"),),
+                told + ((end, end, ""),), told + (((end, 99), ""),), told + (((end,), ""),), told + (((end, end), "\u25a1a"),), told + (((end, end), "a\u25a1"),),
                 set(told), dict.fromkeys(told)]:
             with self.subTest(repr(thing)):
                 self.assertIs(keeps_swaps_out(machine, thing), False)
@@ -372,7 +372,8 @@ class SwapJudges(unittest.TestCase):
         self.assertIs(are_swapped(INT, FIGURES, 1234, 2143), False)
         self.assertIs(are_swapped(INT, FIGURES, 123, 134), False)
         self.assertIs(are_swapped(INT, FIGURES, 12, 34), False)
-        self.assertIs(are_swapped(INT, FIGURES, 12, 120), False)
+        for one, other in ((12, 120), (120, 12), (12, 210), (210, 12), (12, 0), (0, 12)):
+            self.assertIs(are_swapped(INT, FIGURES, one, other), False)
         self.assertIs(are_swapped(INT, HUGE, 12, 21), False)
         self.assertIs(are_swapped(DIGITS, PADDED, 1, 10), True)
         self.assertIs(are_swapped(PRICE, LOOSE, (1, 23), (13, 2)), True)
