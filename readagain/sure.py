@@ -169,7 +169,7 @@ def node_steps(beginning, other, node):
     if row[0] == "sign":
         return [((key, row[2]), row[1], 0)]
     other_marks = dict(items_behind(row))
-    if other_marks and not any(is_told(mark) for mark in other_marks):
+    if not any(is_told(mark) for mark in other_marks):
         return [((key, behind), SILENT, 0) for behind in other_marks.values()]
     return [((behind, other_marks[mark]), SILENT, 0) for behind, mark in steps if mark in other_marks]
 

@@ -172,6 +172,15 @@ class Sure(unittest.TestCase):
         self.assertEqual(sure_parts(sort, format, "0"), ())
         self.assertEqual(sure_parts(sort, ("skip",), ""), ())
 
+    def test_parts_behind_many(self):
+        one = ("many", ("one", 2), 0, None)
+        sort = ("row", (one, one, DIGITS, ("maybe", one), WORD))
+        names = ("many", "", "(", ",", ")", ("names", ("n", "y")))
+        format = ("row", ((0, names), ";", (1, names), ";", (2, TWO), ";", (3, ("maybe", "-", names)), ";", (4, ("plain",))))
+        self.assertEqual(sure_parts(sort, format, "(n,y);;07;(y);ab"),
+                         (((0, 0), 0), ((0, 1), 1), ((2,), 7), ((3, 1, 0), 1), ((4,), "ab")))
+        self.assertEqual(sure_parts(sort, format, ";(y);07;-;a"), (((1, 0), 1), ((2,), 7), ((3,), None)))
+
     def test_integers_of_powers_and_other_bases(self):
         sort = ("row", (("int", 0, 900), ("int", -9, 9)))
         format = ("row", ((0, ("powers", 10, "-")), ";", (1, ("figures", 2, "-", 1, 0, "", ""))))
