@@ -78,12 +78,12 @@ def marks_apart(machine):
 
 
 def pairs_apart(machine):
-    """The ascending list of the pairs of places behind unlike marks, either mark first."""
+    """The list of the pairs of places behind unlike marks, either mark first."""
     found = {}
     for _, lesser, greater in marks_apart(machine):
         found[(lesser[1], greater[1])] = True
         found[(greater[1], lesser[1])] = True
-    return sorted(found)
+    return list(found)
 
 
 def starts_apart(machine):

@@ -53,9 +53,9 @@ def common_items(first, steps_from):
     found = []
     behind = items_next([first], steps_from)
     while len(behind) == 1 and SILENT not in behind:
-        for item in list(behind):
-            found.append(item)
-            behind = items_next(behind[item], steps_from)
+        item, keys = list(behind.items())[0]
+        found.append(item)
+        behind = items_next(keys, steps_from)
     return found
 
 
