@@ -58,20 +58,19 @@ def resync(sort, format):
     edges = unsettled_edges(machine)
     order = ordered_keys(edges)
     if len(order) < len(edges):
-        return ("lost",) + texts_lost(machine, edges, order)
+        return ("lost",) + texts_lost(machine, edges)
     # One sign more than to the last lot that isn't settled.
     table = {lot: many + 1 for lot, many in greatest_costs(edges, order).items()}
     return ("settled", table[first_lot(machine)], table)
 
 
-def texts_lost(machine, edges, order):
+def texts_lost(machine, edges):
     """A text to a lot of a ring, and one round it."""
-    ring = ring_in(edges, order)
-
     def steps_from(lot):
         return edges[lot]
+    lot, loop = ring_in(edges)
     ways = cheapest_ways({0: [(first_lot(machine), None)]}, steps_from)
-    return ("".join(items_to(ways, ring[0][0])), "".join([step[1] for _, step in ring]))
+    return ("".join(items_to(ways, lot)), "".join(loop))
 
 
 def is_lot(machine, thing):

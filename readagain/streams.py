@@ -4,8 +4,7 @@ from readagain.emptiness import check_no_text_is_empty
 from readagain.errors import BadFormat, BadText
 from readagain.judging import is_count, is_place_pair, is_table
 from readagain.machines import machine_of, place_from
-from readagain.pairing import (
-    by_costs, either_way, end_of, is_end, pair_steps, pairs_apart, row_on, rows_to, starts_apart)
+from readagain.pairing import by_costs, either_way, end_of, is_end, pair_steps, pairs_apart, rows_to, starts_apart
 from readagain.scores import is_row_of_texts, text_of, value_of
 from readagain.signs import is_pair
 from readagain.tracing import only_row
@@ -70,23 +69,12 @@ def lookahead(sort, format):
     late = pairs.late_edges()
     order = ordered_keys(late)
     if len(order) < len(late):
-        back, loops = loops_in(machine, late, order)
-        return ("endless", pairs.rows_to_late(back), loops)
+        # There is a ring with signs: where a ring has marks alone, endless many values have one
+        # text, and rows that begin with two of these go on alike for ever.
+        back, loops = ring_in(late)
+        return ("endless", pairs.rows_to_late(back), joined_pair(loops))
     table = greatest_costs(late, order)
     return ("known", max([table[pair] + 1 for pair in pairs.first_late()], default=0), table)
-
-
-def loops_in(machine, late, order):
-    """A late pair, and the pair of rows of items by which it leads back to itself.
-
-    If unlike values have one text, both rows may go on by one and the same score. If not, no ring
-    is without signs: for then texts of values that go round it once and twice would be the same.
-    """
-    ends = (end_of(machine), end_of(machine))
-    if ends in late:
-        return (ends, (row_on(machine, 0), row_on(machine, 0)))
-    ring = ring_in(late, order)
-    return (ring[0][0], joined_pair([step[1] for _, step in ring]))
 
 
 def shows_known(machine, n, thing):

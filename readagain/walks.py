@@ -117,16 +117,50 @@ def greatest_costs(edges, order):
     return {told: costs[told] for told in sorted(costs)}
 
 
-def ring_in(edges, order):
-    """The list of pairs (key, step) of a ring, where there are keys besides the ordered ones."""
-    done = {key: True for key in order}
-    rest = [key for key in edges if key not in done]
-    at = rest[0]
+def finished_order(edges):
+    """All keys, each behind those to which it leads, but for such as lead back to it."""
+    order = []
+    seen = {}
+    for first in edges:
+        waiting = [(first, False)]
+        while waiting:
+            key, is_gone_on_from = waiting.pop()
+            if is_gone_on_from:
+                order.append(key)
+            elif key not in seen:
+                seen[key] = True
+                waiting.append((key, True))
+                waiting.extend([(step[0], False) for step in edges[key]])
+    return order
+
+
+def ring_numbers(edges):
+    """The dict of all keys to numbers, which are the same for those that lead to each other."""
+    ahead = {told: [] for told in edges}
+    for key, steps in edges.items():
+        for step in steps:
+            ahead[step[0]].append(key)
     numbers = {}
-    found = []
-    while at not in numbers:
-        numbers[at] = len(found)
-        steps = [step for step in edges[at] if step[0] not in done]
-        found.append((at, steps[0]))
-        at = steps[0][0]
-    return found[numbers[at]:]
+    for number, first in enumerate(reversed(finished_order(edges))):
+        waiting = [first]
+        while waiting:
+            key = waiting.pop()
+            if key not in numbers:
+                numbers[key] = number
+                waiting.extend(ahead[key])
+    return numbers
+
+
+def ring_in(edges):
+    """A key, and the list of the items of steps that lead from it back to it and cost something.
+
+    There must be such a ring. Not all rings will do: some may go round steps that cost nothing.
+    """
+    def steps_from(told):
+        return edges[told]
+    numbers = ring_numbers(edges)
+    for key, steps in edges.items():
+        for behind, items, cost in steps:
+            if cost > 0 and numbers[behind] == numbers[key]:
+                return (key, [items] + items_to(cheapest_ways({0: [(behind, None)]}, steps_from), key))
+    return None

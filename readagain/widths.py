@@ -6,6 +6,7 @@ from readagain.signs import are_ascending, is_integer, is_number, is_text, is_tu
 from readagain.verdicts import are_twins, is_closed, verdict
 
 GREATEST_WIDTH = 8
+MOST_PADS = 3
 
 
 def inner_formats(format):
@@ -62,11 +63,15 @@ def put_widths(format, widths, at):
 
 
 def widened(format, most):
-    """The list of (widths, format with them) for all widths up to the most, by their sum."""
-    if not is_number(most, 0, GREATEST_WIDTH):
+    """The list of (widths, format with them) for all widths up to the most, by their sum.
+
+    BadThing(most) also of a format that has no pad, or more than three.
+    """
+    pads = widths_of(format)
+    if not is_number(most, 0, GREATEST_WIDTH) or not 1 <= len(pads) <= MOST_PADS:
         raise BadThing(most)
     rows = [()]
-    for _ in widths_of(format):
+    for _ in pads:
         rows = [row + (width,) for row in rows for width in range(most + 1)]
     return [(widths, with_widths(format, widths)) for widths in sorted(rows, key=sum)]
 

@@ -132,6 +132,25 @@ def some_pair(rng, endless, deep=3):
             return sort, format
 
 
+def some_cut_many(rng):
+    """A sort of endless many values, and a format of it: a cut around a format of many, within another format."""
+    while True:
+        part, other = some_sort(rng, rng.choice((1, 1, 2)), True), some_sort(rng, 1, True)
+        many = ("many", part, rng.choice((0, 0, 1, 2)), None)
+        texts = tuple(some_text(rng, 0, 2) for _ in range(4))
+        within = ("cut", rng.randint(0, 4), ("many",) + texts + (some_format(rng, part, 3),))
+        beside = some_format(rng, other, 4)
+        sort, format = rng.choice((
+            (("many", many, rng.choice((0, 1)), rng.choice((None, 2))), ("many",) + texts[::-1] + (within,)),
+            (("row", (many, other)), ("row", (some_text(rng, 1, 1), (0, within), (1, beside)))),
+            (("row", (other, many)), ("row", ((0, beside), (1, within)))),
+            (("maybe", many), ("maybe", some_text(rng, 1, 2), within)),
+            (("case", (other, many)), ("case", (beside, within))),
+            (many, ("pad", rng.randint(1, 4), rng.choice("0a"), rng.choice("<>^"), within)), (many, ("checked", 3, 2, within))))
+        if is_sort(sort) and is_format(sort, format):
+            return sort, format
+
+
 def some_values(rng, sort, size):
     """Some values of a sort: all of them, if they are few."""
     many = how_many_values(sort)

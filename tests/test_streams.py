@@ -11,7 +11,7 @@ from readagain.scores import is_mark, text_of, unspelled, marks_of
 from readagain.sorts import how_many_values
 from readagain.streams import RowReader, lookahead, shows_endless, shows_known, written_row
 from readagain.writing import write
-from tests.making import DIGITS, FIGURES, INT, LOOSE, PRICE, TIGHT, TWO, WORD, all_values, some_pair, some_values
+from tests.making import DIGITS, FIGURES, INT, LOOSE, PRICE, TIGHT, TWO, WORD, all_values, some_cut_many, some_pair, some_values
 from tests.reckoning import (
     END, ODD_THINGS, all_come_to, changed_dicts, first_told, is_pair_of, is_whole, lists_for_tuples, raised_numbers,
     steps_told, truths_for_integers)
@@ -84,6 +84,13 @@ def endless_by_the_words(machine, fronts, loops):
         return False
     parted = same.index(False)
     return is_mark(fronts[0][parted]) and is_mark(fronts[1][parted])
+
+
+def has_ring_of_marks(machine):
+    """Whether marks alone lead from some place back to it."""
+    def behind(place):
+        return [other for _, other in machine[place][1]] if machine[place][0] == "marks" else []
+    return any(place in all_come_to(behind(place), behind) for place in range(len(machine)))
 
 
 def late_by_texts(texts):
@@ -271,6 +278,33 @@ class Lookahead(unittest.TestCase):
     def test_a_ring_of_marks_alone(self):
         sort, format = ("many", ("one", 2), 0, None), ("many", "x", "(", "", ")", ("skip",))
         self.assertEqual(self.right(sort, format, None)[0], "endless")
+
+    def test_loops_have_signs(self):
+        sort = ("many", ("many", ("int", 5, 12), 0, None), 1, 2)
+        figures = ("figures", 2, "+", 3, 0, "", "")
+        format = ("many", "0", "(", "-", "", ("cut", 2, ("many", "a", "(", " ", "", figures)))
+        word, _, loops = self.right(sort, format, None)
+        self.assertEqual((word, text_of(loops[0])), ("endless", text_of(loops[1])))
+        self.assertNotEqual(text_of(loops[0]), "")
+
+    def test_endless_many_values_with_one_text(self):
+        rng = random.Random(120)
+        tried = rings = 0
+        while tried < 150:
+            sort, format = some_cut_many(rng)
+            if can_be_empty(sort, format):
+                continue
+            with self.subTest((sort, format)):
+                try:
+                    machine = machine_of(sort, format)
+                except TooLarge:
+                    continue
+                if len(machine) < 100:
+                    tried += 1
+                    told = self.right(sort, format, None)
+                    rings += has_ring_of_marks(machine)
+                    self.assertTrue(told[0] == "endless" or not has_ring_of_marks(machine))
+        self.assertGreater(rings, 60)
 
     def test_equal_answers(self):
         told = lookahead(THREE, KNOWN)

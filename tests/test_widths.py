@@ -147,15 +147,30 @@ class LeastWidths(unittest.TestCase):
                 self.assertEqual(caught.exception.thing, most)
 
     def test_other_numbers_of_pads(self):
-        told = least_widths(DIGITS, FIGURES, 2)
-        self.assertEqual(told, ((), verdict(DIGITS, FIGURES)[1], ()))
-        self.assertIs(are_least_widths(DIGITS, FIGURES, 2, told), True)
-        self.assertIs(are_least_widths(DIGITS, FIGURES, 2, (None, None, ())), False)
-        told = least_widths(DIGITS, ("cut", 1, FIGURES), 2)
-        self.assertEqual((told[:2], told[2][0][0], len(told[2])), ((None, None), (), 1))
-        four = ("row", tuple((at, ("pad", 1, "0", ">", FIGURES)) for at in range(4)))
-        sort = ("row", (("int", 0, 9),) * 3 + (("int", 0, 20),))
-        self.assertEqual(least_widths(sort, four, 2)[0], (0, 0, 0, 0))
+        four = ("row", tuple((at, PADDED) for at in range(4)))
+        nested = FIGURES
+        for _ in range(4):
+            nested = ("pad", 1, "0", "<", nested)
+        beside = ("row", ((0, PADDED), (1, ("pad", 1, "0", "<", PADDED)), (2, PADDED)))
+        for sort, format in ((DIGITS, FIGURES), (DIGITS, ("cut", 1, FIGURES)), (DIGITS, ("skip",)), (DIGITS, nested), (INT, HUGE),
+                             (("row", (DIGITS,) * 4), four), (("row", (DIGITS,) * 3), beside), (EVERYWHERE_SORT, EVERYWHERE)):
+            for most in (0, 1, 8, 9, True, None):
+                for call in (lambda: least_widths(sort, format, most), lambda: are_least_widths(sort, format, most, None),
+                             lambda: are_least_widths(sort, format, most, ((), (), ()))):
+                    with self.subTest((sort, format, most)), self.assertRaises(BadThing) as caught:
+                        call()
+                    self.assertIs(caught.exception.thing, most)
+
+    def test_one_to_three_pads(self):
+        for many in (1, 2, 3):
+            format = FIGURES
+            for _ in range(many):
+                format = ("pad", 1, "0", "<", format)
+            told = least_widths(DIGITS, format, 0)
+            self.assertEqual(told, ((0,) * many, verdict(DIGITS, with_widths(format, (0,) * many))[1], ()))
+            self.assertIs(are_least_widths(DIGITS, format, 0, told), True)
+            sort, row = ("row", (DIGITS,) * many), ("row", tuple((at, PADDED) for at in range(many)))
+            self.assertEqual(least_widths(sort, row, 2)[0], (0,) + (2,) * (many - 1))
 
     def test_too_large(self):
         huge = ("pad", 1, "0", ">", HUGE)
