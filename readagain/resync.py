@@ -1,13 +1,12 @@
 """How many signs a reader from anywhere must see to know where a text ends."""
 
 from readagain.emptiness import check_no_text_is_empty
-from readagain.errors import TooLarge
 from readagain.judging import is_count, is_place, is_table
 from readagain.machines import machine_of
 from readagain.pairing import is_end
 from readagain.signs import are_ascending
 from readagain.tracing import layer_behind, layer_of, signs_behind
-from readagain.walks import cheapest_ways, greatest_costs, items_to, ordered_keys, ring_in
+from readagain.walks import cheapest_ways, greatest_costs, items_to, ordered_keys, reached_at_most, ring_in
 
 MOST_LOTS = 1000
 
@@ -37,18 +36,10 @@ def is_settled(machine, lot):
 
 def unsettled_edges(machine):
     """The edges of all lots that are come to by such as aren't settled; TooLarge if these are too many."""
-    edges = {}
-    waiting = [first_lot(machine)]
-    while waiting:
-        lot = waiting.pop()
-        if lot in edges:
-            continue
-        if len(edges) == MOST_LOTS:
-            raise TooLarge(MOST_LOTS)
+    def steps_from(lot):
         steps = [(behind, sign, 1) for sign, behind in lot_steps(machine, lot)]
-        edges[lot] = [step for step in steps if not is_settled(machine, step[0])]
-        waiting.extend([step[0] for step in edges[lot]])
-    return edges
+        return [step for step in steps if not is_settled(machine, step[0])]
+    return reached_at_most([first_lot(machine)], steps_from, MOST_LOTS)
 
 
 def resync(sort, format):

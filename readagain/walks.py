@@ -5,14 +5,23 @@ their steps. A way is told from behind: for each key that is come to, the way to
 beginning, else (key ahead, items by which one comes from there).
 """
 
+from readagain.errors import TooLarge
+
 
 def reached(starts, steps_from):
     """The edges of all keys that are come to."""
+    return reached_at_most(starts, steps_from, None)
+
+
+def reached_at_most(starts, steps_from, most):
+    """The edges of all keys that are come to; TooLarge(most) if these are more (None: any number will do)."""
     edges = {}
     waiting = list(starts)
     while waiting:
         key = waiting.pop()
         if key not in edges:
+            if len(edges) == most:
+                raise TooLarge(most)
             edges[key] = steps_from(key)
             waiting.extend([step[0] for step in edges[key]])
     return edges

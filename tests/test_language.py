@@ -38,7 +38,10 @@ INTERFACE = {
     "resync": "lot_steps resync shows_settled shows_lost",
     "slips": "slips rules_out_fewer differ_in swaps keeps_swaps_out are_swapped",
     "nearest": "changes_between nearest no_nearer is_nearest", "mending": "corrected is_sure fitting lost_at",
-    "sure": "sure_marks sure_parts sure_text Rewriter rewritten"}
+    "sure": "sure_marks sure_parts sure_text Rewriter rewritten",
+    "including": "including shows_within same_texts shows_same is_outside",
+    "totals": "how_long how_often mean_length shortest_form", "checking": "least_check is_least_check",
+    "telling": "telling_values tells_all written_by", "guessing": "formats_for"}
 CLASSES = {
     ("reading", "Scanner"): ("feed can_end next_signs readings", "size"),
     ("streams", "RowReader"): ("feed can_end rest", "size told"), ("sure", "Rewriter"): ("feed end", "out")}
@@ -129,7 +132,9 @@ class Language(unittest.TestCase):
             used = {node.id for node in ast.walk(tree) if isinstance(node, ast.Name)}
             for node in ast.walk(tree):
                 self.assertNotIsInstance(node, ast.Import)
-                if isinstance(node, ast.ImportFrom):
+                if isinstance(node, ast.ImportFrom) and node.module == "math":
+                    self.assertEqual([(part.name, part.asname) for part in node.names], [("gcd", None)])
+                elif isinstance(node, ast.ImportFrom):
                     self.assertTrue(node.module.startswith("readagain.") and node.level == 0)
                     other = node.module.split(".")[1]
                     ways[name].add(other)
