@@ -5,6 +5,8 @@ from readagain.machines import machine_of
 from readagain.pairing import either_way, is_end, pair_steps, pairs_apart, row_on, rows_to, starts_apart, ways_to_pairs
 from readagain.scores import value_of
 from readagain.sorts import is_value
+from readagain.verdicts import first_pairs
+from readagain.walks import reached
 from readagain.writing import write
 
 
@@ -19,6 +21,14 @@ def standing(sort, format):
     one, other = rows_to(machine, ways, begun[0])
     whole = other + row_on(machine, begun[0][1])
     return ("begins", value_of(sort, format, one), value_of(sort, format, whole))
+
+
+def is_alone(machine):
+    """Whether all texts stand alone: of two that are unlike, neither is over where both have the same signs."""
+    def steps_from(pair):
+        return pair_steps(machine, machine, pair)
+    pairs = reached(first_pairs(machine), steps_from)
+    return not any(is_end(machine, one) or is_end(machine, other) for one, other in pairs)
 
 
 def stands_alone(machine, thing):

@@ -6,7 +6,7 @@ from readagain.pairing import end_of, is_end, mark_steps, marks_apart, rows_to, 
 from readagain.scores import value_of
 from readagain.signs import is_pair, is_sign
 from readagain.sorts import is_value
-from readagain.walks import cheapest_ways, items_to, joined_pair, reached, ways_on
+from readagain.walks import cheapest_ways, items_to, joined_pair, reached, ways_on, ways_up_to
 from readagain.writing import write
 
 FIRST_NODE = ((0, 0), "")
@@ -114,8 +114,8 @@ def swaps(sort, format):
 
     def steps_from(node):
         return swap_steps(machine, node)
-    ways = cheapest_ways({0: [(FIRST_NODE, None)]}, steps_from)
     goal = ((end_of(machine), end_of(machine)), DONE)
+    ways = ways_up_to(FIRST_NODE, steps_from, goal)
     if goal not in ways:
         return ("safe", tuple(sorted(ways)))
     one, other = joined_pair(items_to(ways, goal))

@@ -60,6 +60,21 @@ def cheapest_ways(starts, steps_from):
     return cheapest(starts, ways_from)[0]
 
 
+def ways_up_to(start, steps_from, goal):
+    """Ways from a key to all keys, whatever they cost; only to some of them if the goal is come to.
+
+    Where it is of no matter which way leads to the goal, one is found much sooner so.
+    """
+    ways = {}
+    waiting = [(start, None)]
+    while waiting and goal not in ways:
+        key, way = waiting.pop()
+        if key not in ways:
+            ways[key] = way
+            waiting.extend([(behind, (key, items)) for behind, items, _ in steps_from(key)])
+    return ways
+
+
 def ways_on(edges, goals):
     """As cheapest, but for the ways from all keys on to goals, each told by (key behind, items)."""
     ahead = {told: [] for told in edges}

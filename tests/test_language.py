@@ -41,10 +41,18 @@ INTERFACE = {
     "sure": "sure_marks sure_parts sure_text Rewriter rewritten",
     "including": "including shows_within same_texts shows_same is_outside",
     "totals": "how_long how_often mean_length shortest_form", "checking": "least_check is_least_check",
-    "telling": "telling_values tells_all written_by", "guessing": "formats_for"}
+    "telling": "telling_values tells_all written_by", "guessing": "formats_for",
+    "reports": "report differences best_of", "logs": "Log", "shelves": "deeds_sort deeds_format Shelf",
+    "plainvalues": "value_text read_value read_values", "shell": "Shell run_lines described",
+    "sources": "read_sort read_format sort_text format_text"}
 CLASSES = {
     ("reading", "Scanner"): ("feed can_end next_signs readings", "size"),
-    ("streams", "RowReader"): ("feed can_end rest", "size told"), ("sure", "Rewriter"): ("feed end", "out")}
+    ("streams", "RowReader"): ("feed can_end rest", "size told"), ("sure", "Rewriter"): ("feed end", "out"),
+    ("logs", "Log"): ("__len__ write torn back_to place_of rewritten", "entries text loose"),
+    ("shelves", "Shelf"): ("can do log names text_of value_of replace names_of beginning_with torn at moved_to", ""),
+    ("shell", "Shell"): ("answer", "")}
+# Methods of values of Python's own that a class of the package has, too.
+OWN_METHODS = ("__init__", "__len__", "replace")
 
 
 def functions_of(tree):
@@ -205,7 +213,8 @@ class Language(unittest.TestCase):
                         if isinstance(operator, (ast.Is, ast.IsNot)):
                             self.assertTrue(isinstance(right, ast.Constant) and right.value in (None, True, False))
                 if isinstance(node, ast.ExceptHandler):
-                    self.assertIn(node.type.id, INTERFACE["errors"].split())
+                    for error in node.type.elts if isinstance(node.type, ast.Tuple) else [node.type]:
+                        self.assertIn(error.id, INTERFACE["errors"].split())
                 if isinstance(node, ast.Raise) and node.exc is not None:
                     self.assertTrue(isinstance(node.exc, ast.Call) and node.exc.func.id in INTERFACE["errors"].split())
                 if isinstance(node, ast.Delete):
@@ -230,7 +239,7 @@ class Language(unittest.TestCase):
                         if isinstance(word, str):
                             self.assertNotIn(word, BARRED)
                             self.assertFalse([part for part in BARRED_PARTS if part in word])
-                            self.assertTrue(not word.startswith("__") or word == "__init__", word)
+                            self.assertTrue(not word.startswith("__") or word in OWN_METHODS, word)
                 self.assertFalse(re.search(r"\b(_wall|_WallAttr|dataclass|overload|contextmanager)", source))
 
     def test_calls(self):
@@ -255,7 +264,7 @@ class Language(unittest.TestCase):
                     self.assertEqual(methods & stored, set())
                     self.assertFalse(stored & set("items keys values pop update append clear extend insert remove reverse setdefault sort "
                                                   "args encode decode hex fromhex format".split()))
-                    self.assertFalse((methods - {"__init__"}) & set(dir(str) + dir(int) + dir(list) + dir(dict) + dir(bytes)))
+                    self.assertFalse((methods - set(OWN_METHODS)) & set(dir(str) + dir(int) + dir(list) + dir(dict) + dir(bytes)))
 
     def test_what_is_iterated_at_once(self):
         for name, tree in self.each():
