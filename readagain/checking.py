@@ -1,8 +1,9 @@
 """The least check signs by which wrong and exchanged signs are always seen."""
 
 from readagain.errors import BadThing
+from readagain.judging import shows_first
 from readagain.machines import machine_of
-from readagain.signs import is_integer, is_number, is_pair, is_tuple_of
+from readagain.signs import is_integer, is_number, is_pair
 from readagain.slips import are_swapped, differ_in, keeps_swaps_out, rules_out_fewer, slips, swaps
 
 MOST_WRONG = 3
@@ -47,15 +48,14 @@ def is_least_check(sort, format, n, most, thing):
     named = checked_formats(format, n, most)
     # What the first format asks for is asked for, whatever the thing is.
     machine_of(sort, named[0][1])
-    if not is_tuple_of(thing, 3, 3) or not isinstance(thing[2], tuple):
-        return False
-    told, shown, faults = thing
-    for at, (check, checked) in enumerate(named):
-        if is_same_check(check, told):
-            return len(faults) == at and rules_out_all(machine_of(sort, checked), n, shown)
-        if at == len(faults) or not is_fault(sort, checked, check, n, faults[at]):
-            return False
-    return told is None and shown is None and len(faults) == len(named)
+
+    def shows(checked, tables):
+        return rules_out_all(machine_of(sort, checked), n, tables)
+
+    def are_against(checked, one, other):
+        many = differ_in(sort, checked, one, other)
+        return many is not None and many <= n or are_swapped(sort, checked, one, other)
+    return shows_first(named, thing, is_same_check, shows, are_against)
 
 
 def is_same_check(check, thing):
@@ -66,11 +66,3 @@ def is_same_check(check, thing):
 def rules_out_all(machine, n, thing):
     """Whether a thing is a pair of tables that rule out n wrong signs at most, and an exchange."""
     return is_pair(thing) and rules_out_fewer(machine, n + 1, thing[0]) and keeps_swaps_out(machine, thing[1])
-
-
-def is_fault(sort, format, check, n, thing):
-    """Whether a thing is a check and two values that differ in n signs at most, or by an exchange."""
-    if not is_tuple_of(thing, 3, 3) or not is_same_check(check, thing[0]):
-        return False
-    many = differ_in(sort, format, thing[1], thing[2])
-    return many is not None and many <= n or are_swapped(sort, format, thing[1], thing[2])

@@ -1,6 +1,6 @@
 """What judges ask of things that are said to show something."""
 
-from readagain.signs import is_number, is_pair
+from readagain.signs import is_number, is_pair, is_tuple_of
 
 
 def is_place(machine, thing):
@@ -41,3 +41,24 @@ def is_count(thing):
 def is_count_or_none(thing):
     """Whether a thing is None, or an integer from 0 on."""
     return thing is None or is_count(thing)
+
+
+def shows_first(named, thing, is_same, shows, are_against):
+    """Whether a thing shows which of some named formats is the first one that will do, or that none will.
+
+    It is (name, what shows it, pairs of values against all ahead, each behind its name), or
+    (None, None, such for all). is_same(name, thing) tells whether a thing is a name, shows(format,
+    thing) whether it shows that a format will do, are_against(format, one, other) whether two
+    things show that it won't.
+    """
+    if not is_tuple_of(thing, 3, 3) or not isinstance(thing[2], tuple):
+        return False
+    told, shown, rows = thing
+    for at, (name, format) in enumerate(named):
+        if is_same(name, told):
+            return len(rows) == at and shows(format, shown)
+        if at == len(rows) or not is_tuple_of(rows[at], 3, 3) or not is_same(name, rows[at][0]):
+            return False
+        if not are_against(format, rows[at][1], rows[at][2]):
+            return False
+    return told is None and shown is None and len(rows) == len(named)

@@ -11,9 +11,6 @@ from readagain.sorts import how_many_values
 from readagain.streams import lookahead
 from readagain.verdicts import is_readable
 
-TEXT_IS_EMPTY = -1
-TOO_MANY_LOTS = -2
-
 
 def report(sort, format):
     """The pairs of words and what is told."""
@@ -32,21 +29,21 @@ def report(sort, format):
 
 
 def how_late(sort, format):
-    """How many signs late first values are known; None for endless."""
+    """How many signs late first values are known; None for endless, -1 if a text is empty."""
     if can_be_empty(sort, format):
-        return TEXT_IS_EMPTY
+        return -1
     told = lookahead(sort, format)
     return told[1] if told[0] == "known" else None
 
 
 def how_soon_settled(sort, format):
-    """How many signs a reader from anywhere must see; None for lost."""
+    """How many signs a reader from anywhere must see; None for lost, -1 if a text is empty, -2 for too many lots."""
     if can_be_empty(sort, format):
-        return TEXT_IS_EMPTY
+        return -1
     try:
         told = resync(sort, format)
     except TooLarge:
-        return TOO_MANY_LOTS
+        return -2
     return told[1] if told[0] == "settled" else None
 
 

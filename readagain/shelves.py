@@ -143,6 +143,6 @@ class Shelf:
     def moved_to(self, format):
         """A shelf of another format for which all the same was done."""
         shelf = Shelf(self._kept_sort, format, "")
-        for deed in self._deeds.entries:
+        for deed in list(self._deeds.entries):
             shelf.do(deed)
         return shelf

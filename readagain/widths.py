@@ -1,6 +1,7 @@
 """The least widths, and the least texts between, with which a format can be read back."""
 
 from readagain.errors import BadThing
+from readagain.judging import shows_first
 from readagain.machines import machine_of
 from readagain.signs import are_ascending, is_integer, is_number, is_text, is_tuple_of
 from readagain.verdicts import are_twins, is_closed, verdict
@@ -132,22 +133,13 @@ def shows_first_readable(sort, named, thing):
     """Whether a thing is such a triple that shows it."""
     # What the first format asks for is asked for, whatever the thing is.
     machine_of(sort, named[0][1])
-    if not is_tuple_of(thing, 3, 3) or not isinstance(thing[2], tuple):
-        return False
-    name, pairs, twins = thing
-    for at, (told, format) in enumerate(named):
-        if is_same_name(told, name):
-            return len(twins) == at and is_closed(machine_of(sort, format), pairs)
-        if at == len(twins) or not are_named_twins(sort, told, format, twins[at]):
-            return False
-    return name is None and pairs is None and len(twins) == len(named)
 
+    def shows(format, pairs):
+        return is_closed(machine_of(sort, format), pairs)
 
-def are_named_twins(sort, name, format, thing):
-    """Whether a thing is a name and two values that a format writes alike."""
-    if not is_tuple_of(thing, 3, 3) or not is_same_name(name, thing[0]):
-        return False
-    return are_twins(sort, format, thing[1], thing[2])
+    def are_against(format, one, other):
+        return are_twins(sort, format, one, other)
+    return shows_first(named, thing, is_same_name, shows, are_against)
 
 
 def is_same_name(name, thing):
