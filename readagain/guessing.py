@@ -103,7 +103,7 @@ def spellings_with(known, word, text):
         sign = word[at]
         for size in range(1, LONGEST_SPELLED + 1):
             part = text[begun:begun + size]
-            if len(part) == size and texts.get(sign, part) == part:
+            if texts.get(sign, part) == part:
                 longer = dict(texts)
                 longer[sign] = part
                 waiting.append((at + 1, begun + size, longer))

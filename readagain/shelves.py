@@ -64,7 +64,7 @@ class Shelf:
             return len(self._past) > 0
         if kind == REDO:
             return len(self._undone) > 0
-        return told[0] in self._values and (kind == TAKE or told[1] not in self._values)
+        return told[0] in self._values and (kind != MOVE or told[1] not in self._values)
 
     def do(self, deed):
         """Do a deed."""

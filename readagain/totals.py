@@ -9,15 +9,10 @@ from readagain.sorts import how_many_values
 from readagain.walks import ordered_keys
 
 
-def check_finite(sort):
-    """Raise BadThing if a sort has endless many values."""
+def finite_machine(sort, format):
+    """The machine of a format of a sort with finitely many values, so it has no rings; BadThing for other sorts."""
     if how_many_values(sort) is None:
         raise BadThing(sort)
-
-
-def finite_machine(sort, format):
-    """The machine of a format of a sort with finitely many values: so it has no rings."""
-    check_finite(sort)
     return machine_of(sort, format)
 
 
@@ -73,6 +68,5 @@ def mean_length(sort, format):
 
 def shortest_form(sort, formats):
     """The number of the first format whose texts of all values have the fewest signs together."""
-    check_finite(sort)
     totals = [all_signs(sort, format) for format in formats]
     return totals.index(min(totals))

@@ -232,6 +232,9 @@ class Errors(unittest.TestCase):
         self.assertRaises(TooLarge, machine_of, sort, checked((5, 2), format))
         self.assertRaises(TooLarge, least_check, sort, format, 1, 16)
         self.assertEqual(least_check(sort, format, 1, 2)[0], None)
+        faults = least_check(sort, format, 1, 2)[2]
+        for thing in (None, (None, None, faults), ((2, 1), ({}, ()), ())):
+            self.assertIs(is_least_check(sort, format, 1, 16, thing), False)
 
 
 if __name__ == "__main__":

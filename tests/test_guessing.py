@@ -91,6 +91,8 @@ class Guessing(unittest.TestCase):
                          [(1, 0, "", "0"), (2, 0, "", "")])
         self.assertEqual({format[3] for format in self.right(NATURAL, ((7, "000000000007"),))}, set())
         self.assertEqual({format[3] for format in self.right(NATURAL, ((123456, "123456"),)) if format[1] == 10}, {1, 2, 3, 4, 5, 6})
+        self.assertEqual({format[3] for format in self.right(NATURAL, ((7, "0000007"),)) if format[1] == 10 and format[2] == "-"}, {3, 4, 5, 6})
+        self.assertEqual({format[3] for format in self.right(NATURAL, ((1234567, "1234567"),)) if format[1] == 10}, {1, 2, 3, 4, 5, 6})
         self.assertEqual(self.right(INT, ((7, ""),)), ())
         self.assertEqual(self.right(INT, ((7, "8"),)), ())
         self.assertEqual(self.right(INT, ((7, "7"), (7, "07"))), ())

@@ -163,7 +163,8 @@ class Best(unittest.TestCase):
                 (DIGITS, (("pad", 3, "0", ">", TWO), TWO), 1), (ONE, (("names", ("a", "ab")), ("names", ("", "a"))), 1), (ONE, (("names", ("ab", "cd")), ("names", ("ab", "abc"))), 0),
                 (ONE, (("names", ("ab", "cd")), ("names", ("ab", "cde"))), 1), (ONE, (("names", ("ab", "cd")), ("names", ("a", "b"))), 0), (ONE, (("names", ("ab", "ac")), ("names", ("a", "b"))), 1),
                 (ONE, (("names", ("a", "aa")), ("names", ("a", "ab")), ("names", ("a", "aab"))), 1), (ONE, (("names", ("a", "a")), ("names", ("", ""))), 1),
-                (ONE, (("names", ("a", "a")), ("names", ("a", "aa"))), 1)):
+                (ONE, (("names", ("a", "a")), ("names", ("a", "aa"))), 1), (ONE, (("names", ("a", "aab")), ("names", ("a", "ab"))), 1),
+                (("one", 3), (("names", ("a", "ab", "abb")), ("names", ("", "a", "b"))), 1), (("one", 3), (("names", ("", "a", "b")), ("names", ("a", "ab", "abb"))), 0)):
             with self.subTest(formats):
                 self.assertEqual(best_of(sort, formats), number)
                 self.assertEqual(self.own_best(sort, formats), number)

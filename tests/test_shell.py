@@ -151,6 +151,7 @@ class Lines(unittest.TestCase):
             ('sure "123"', "no text, at 2"), ('nearest "123"', "changes 1"), ('nearest ""', "changes 2"), ('mend "x7"', "wrong 1"), ('mend "17"', "wrong 0 sure"), ('mend "1"', "none"),
             ("count 2", "count 100"), ("count 1", "count 0"), ("count 201", "not so"), ("nth 12", "22"), ("nth 0", "10"), ("nth 99", "9"), ("nth 100", "not so"), ("nth -1", "not so"),
             ('alike pad 2 "0" ">" figures 10 "-"', "alike"), ('alike figures 10 "-"', "unlike"), ('alike figures 16 "-"', "not so"), ("alike plain", "not so"),
+            ('alike pad 9 "0" ">" figures 10 "-"', "not so"), ('rewrite "07" cut 9 figures 10 "-"', "not so"), ('rewrite "7" cut 9 figures 10 "-"', "not so"),
             ('rewrite "07" figures 10 "-" ahead "\\""', '"\\"7"'), ('rewrite "7" figures 10 "-"', "no text, at 1"), ('rewrite "x" figures 16 "-"', "not so"), ('rewrite "x" plain', "not so")))
         self.answers(PRICE, LOOSE, (
             ("verdict", "twins"), ("alone", "begins"), ("lengths", "not so"), ("count 2", "not so"), ("nth 2", "not so"), ('read "123"', "several values"), ('values "123"', "(12, 3); (1, 23)"),

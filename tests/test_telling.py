@@ -139,7 +139,9 @@ class TellsAll(unittest.TestCase):
         self.assertIs(tells_all(NATURAL, formats, ((1,), pairs)), True)
         for thing in (pairs[::-1], pairs[:2], pairs[1:], pairs + pairs[:1], pairs + ((2, 3),)):
             self.assertIs(tells_all(NATURAL, formats, ((1,), thing)), False)
-        self.assertIs(tells_all(NATURAL, formats, ((1,), ((False, 1), (0, 3), (1, 3)))), False)
+        for thing in (((False, 1), (0, 3), (1, 3)), ((0, True), (0, 3), (1, 3)), ((0, 1), (0, 3), (True, 3))):
+            self.assertEqual(thing, pairs)
+            self.assertIs(tells_all(NATURAL, formats, ((1,), thing)), False)
 
     def test_drawn_things(self):
         rng = random.Random(233)

@@ -24,39 +24,64 @@ def answer(call):
 
 
 def asked_of(sort, format, other, value, text):
-    """Calls of all functions that are asked of a sort and a format."""
-    machine = machines.machine_of(sort, format)
-    other_machine = machines.machine_of(sort, other)
+    """Calls of all functions, asked of a sort and a format, and of what the package tells of them."""
+    machine, other_machine = machines.machine_of(sort, format), machines.machine_of(sort, other)
     items, marks = scores.score(sort, format, value), scores.spelling(sort, format, value)
-    both, three = (sort, format), (sort, format, text)
-    pairs = (sort, format, sort, other)
-    listed, rows = [value, value], [(value, text)]
+    both, three, pairs = (sort, format), (sort, format, text), (sort, format, sort, other)
+    padded = ("pad", 1, "0", "<", format) if len(widths.widths_of(format)) < 2 else format
+    listed = (("many", sort, 0, 2), ("many", "", "", "", "", format))
+    given, rows = [value, value], [(value, text)]
     return {
-        "is_sort": lambda: sorts.is_sort(sort), "is_value": lambda: sorts.is_value(sort, value), "how_many_values": lambda: sorts.how_many_values(sort),
-        "is_format": lambda: formats.is_format(*both), "plain_format": lambda: formats.plain_format(sort), "write": lambda: writing.write(*both, value),
-        "score": lambda: scores.score(*both, value), "spelling": lambda: scores.spelling(*both, value), "value_of": lambda: scores.value_of(*both, items),
-        "unspelled": lambda: scores.unspelled(*both, marks), "machine_of": lambda: machines.machine_of(*both), "place_behind": lambda: machines.place_behind(machine, items),
+        **asked_of_values(sort, format, value, text, items, marks),
+        "machine_of": lambda: machines.machine_of(*both), "place_behind": lambda: machines.place_behind(machine, items),
         "first_pairs": lambda: verdicts.first_pairs(machine), "pairs_behind": lambda: verdicts.pairs_behind(machine, (0, 0)), "verdict": lambda: verdicts.verdict(*both),
-        "read": lambda: reading.read(*three), "values_of": lambda: reading.values_of(*three), "scanner": lambda: scanned(*three),
-        "spans": lambda: spans.spans(*both, value), "part_at": lambda: spans.part_at(sort, value, ()), "replaced": lambda: spans.replaced(*three, (), value),
-        "starts": lambda: linking.starts(machine, other_machine), "links": lambda: linking.links(machine, other_machine),
-        "compared": lambda: alike.compared(sort, format, other), "meeting": lambda: meeting.meeting(*pairs), "widths_of": lambda: widths.widths_of(format),
-        "least_widths": lambda: widths.least_widths(sort, ("pad", 1, "0", "<", format), 1) if len(widths.widths_of(format)) < 2 else None,
+        "is_closed": lambda: verdicts.is_closed(machine, verdicts.verdict(*both)[1]), "are_twins": lambda: verdicts.are_twins(*both, value, value),
+        "read": lambda: reading.read(*three), "values_of": lambda: reading.values_of(*three), "Scanner": lambda: scanned(*three),
+        "replaced": lambda: spans.replaced(*three, (), value), "starts": lambda: linking.starts(machine, other_machine), "links": lambda: linking.links(machine, other_machine),
+        "do_spell_alike": lambda: alike.do_spell_alike(sort, format, other), "compared": lambda: alike.compared(sort, format, other),
+        "shows_alike": lambda: alike.shows_alike(sort, format, other, alike.compared(sort, format, other)[1]), "shows_unlike": lambda: alike.shows_unlike(sort, format, other, value),
+        "meeting": lambda: meeting.meeting(*pairs), "keeps_apart": lambda: meeting.keeps_apart(machine, other_machine, meeting.meeting(*pairs)[1]),
+        "do_meet": lambda: meeting.do_meet(*both, value, sort, other, value), "widths_of": lambda: widths.widths_of(format), "with_widths": lambda: widths.with_widths(padded, (2,)),
+        "least_widths": lambda: widths.least_widths(sort, padded, 1), "are_least_widths": lambda: widths.are_least_widths(sort, padded, 1, widths.least_widths(sort, padded, 1)),
+        "least_between": lambda: widths.least_between(*listed, ";", 1), "is_least_between": lambda: widths.is_least_between(*listed, ";", 1, widths.least_between(*listed, ";", 1)),
         "lengths": lambda: counting.lengths(*both), "how_many": lambda: counting.how_many(*both, 3), "number_of": lambda: counting.number_of(*both, value),
-        "value_at": lambda: counting.value_at(*both, 2), "standing": lambda: alone.standing(*both), "lookahead": lambda: streams.lookahead(*both),
-        "written_row": lambda: streams.written_row(*both, listed), "row": lambda: row_read(*three), "lot_steps": lambda: resync.lot_steps(machine, resync.first_lot(machine)),
-        "resync": lambda: resync.resync(*both), "slips": lambda: slips.slips(*both), "swaps": lambda: slips.swaps(*both), "nearest": lambda: nearest.nearest(*three),
-        "corrected": lambda: mending.corrected(*three), "fitting": lambda: mending.fitting(*three), "sure_marks": lambda: sure.sure_marks(*three),
-        "sure_parts": lambda: sure.sure_parts(*three), "sure_text": lambda: sure.sure_text(sort, format, other, text), "rewritten": lambda: sure.rewritten(sort, format, other, text),
-        "rewriter": lambda: rewriter_fed(sort, format, other, text), "including": lambda: including.including(*pairs), "same_texts": lambda: including.same_texts(*pairs),
-        "how_long": lambda: totals.how_long(*both), "how_often": lambda: totals.how_often(*both), "mean_length": lambda: totals.mean_length(*both),
-        "shortest_form": lambda: totals.shortest_form(sort, (format, other)), "least_check": lambda: checking.least_check(*both, 1, 3),
-        "telling_values": lambda: telling.telling_values(sort, (format, other)), "written_by": lambda: telling.written_by(sort, (format, other), rows),
+        "value_at": lambda: counting.value_at(*both, 2), "standing": lambda: alone.standing(*both), "stands_alone": lambda: alone.stands_alone(machine, alone.standing(*both)[1]),
+        "does_begin": lambda: alone.does_begin(*both, value, value), "written_row": lambda: streams.written_row(*both, given), "lookahead": lambda: streams.lookahead(*both),
+        "shows_known": lambda: streams.shows_known(machine, *streams.lookahead(*both)[1:]), "shows_endless": lambda: streams.shows_endless(machine, *streams.lookahead(*both)[1:]),
+        "RowReader": lambda: row_read(*three), "lot_steps": lambda: resync.lot_steps(machine, resync.first_lot(machine)), "resync": lambda: resync.resync(*both),
+        "shows_settled": lambda: resync.shows_settled(machine, *resync.resync(*both)[1:]), "shows_lost": lambda: resync.shows_lost(machine, *resync.resync(*both)[1:]),
+        "slips": lambda: slips.slips(*both), "rules_out_fewer": lambda: slips.rules_out_fewer(machine, 0, slips.slips(*both)[-1]), "differ_in": lambda: slips.differ_in(*both, value, value),
+        "swaps": lambda: slips.swaps(*both), "keeps_swaps_out": lambda: slips.keeps_swaps_out(machine, slips.swaps(*both)[1]), "are_swapped": lambda: slips.are_swapped(*both, value, value),
+        "nearest": lambda: nearest.nearest(*three), "no_nearer": lambda: nearest.no_nearer(machine, text, 0, nearest.nearest(*three)[2]),
+        "is_nearest": lambda: nearest.is_nearest(*three, nearest.nearest(*three)), "corrected": lambda: mending.corrected(*three), "is_sure": lambda: mending.is_sure(*three, 1),
+        "fitting": lambda: mending.fitting(*three), "sure_marks": lambda: sure.sure_marks(*three), "sure_parts": lambda: sure.sure_parts(*three),
+        "sure_text": lambda: sure.sure_text(sort, format, other, text), "rewritten": lambda: sure.rewritten(sort, format, other, text), "Rewriter": lambda: rewriter_fed(sort, format, other, text),
+        "including": lambda: including.including(*pairs), "shows_within": lambda: including.shows_within(machine, other_machine, including.including(*pairs)[1]),
+        "same_texts": lambda: including.same_texts(*pairs), "shows_same": lambda: including.shows_same(machine, other_machine, including.same_texts(*pairs)[1:]),
+        "is_outside": lambda: including.is_outside(*both, value, sort, other), "how_long": lambda: totals.how_long(*both), "how_often": lambda: totals.how_often(*both),
+        "mean_length": lambda: totals.mean_length(*both), "shortest_form": lambda: totals.shortest_form(sort, (format, other)), "least_check": lambda: checking.least_check(*both, 1, 3),
+        "is_least_check": lambda: checking.is_least_check(*both, 1, 3, checking.least_check(*both, 1, 3)), "telling_values": lambda: telling.telling_values(sort, (format, other)),
+        "tells_all": lambda: telling.tells_all(sort, (format, other), telling.telling_values(sort, (format, other))), "written_by": lambda: telling.written_by(sort, (format, other), rows),
         "formats_for": lambda: guessing.formats_for(sort, ((value, text),)), "report": lambda: reports.report(*both), "differences": lambda: reports.differences(sort, format, other),
-        "best_of": lambda: reports.best_of(sort, (format, other)), "log": lambda: logged(*both, value, text), "shelf": lambda: shelved(*both, value),
-        "sort_text": lambda: sources.sort_text(sort), "format_text": lambda: sources.format_text(format), "read_sort": lambda: sources.read_sort(sources.sort_text(sort)),
-        "value_text": lambda: plainvalues.value_text(sort, value), "read_values": lambda: plainvalues.read_values(sort, plainvalues.value_text(sort, value)),
-        "run_lines": lambda: shell.run_lines(shell.described(*both), ["verdict", "lengths", "names", "what"])}
+        "best_of": lambda: reports.best_of(sort, (format, other)), "Log": lambda: logged(*both, value, text), "Shelf": lambda: shelved(*both, value),
+        "Shell": lambda: shell.Shell(shell.described(*both)).answer("report"), "run_lines": lambda: shell.run_lines(shell.described(*both), ["verdict", "lengths", "names", "what"])}
+
+
+def asked_of_values(sort, format, value, text, items, marks):
+    """Calls of the functions that tell of sorts, formats and values as such."""
+    both = (sort, format)
+    return {
+        "check_sort": lambda: sorts.check_sort(sort), "is_sort": lambda: sorts.is_sort(sort), "is_value": lambda: sorts.is_value(sort, value),
+        "how_many_values": lambda: sorts.how_many_values(sort), "check_format": lambda: formats.check_format(*both), "is_format": lambda: formats.is_format(*both),
+        "plain_format": lambda: formats.plain_format(sort), "write": lambda: writing.write(*both, value), "score": lambda: scores.score(*both, value),
+        "spelling": lambda: scores.spelling(*both, value), "value_of": lambda: scores.value_of(*both, items), "unspelled": lambda: scores.unspelled(*both, marks),
+        "is_mark": lambda: scores.is_mark("".join(items[:1])), "text_of": lambda: scores.text_of(items), "marks_of": lambda: scores.marks_of(items),
+        "spans": lambda: spans.spans(*both, value), "part_at": lambda: spans.part_at(sort, value, ()), "with_part": lambda: spans.with_part(sort, value, (), value),
+        "changes_between": lambda: nearest.changes_between(text, "ab"), "lost_at": lambda: mending.lost_at(text, (0,)), "deeds_sort": lambda: shelves.deeds_sort(sort),
+        "deeds_format": lambda: shelves.deeds_format(format), "sort_text": lambda: sources.sort_text(sort), "format_text": lambda: sources.format_text(format),
+        "read_sort": lambda: sources.read_sort(sources.sort_text(sort)), "read_format": lambda: sources.read_format(sort, sources.format_text(format)),
+        "value_text": lambda: plainvalues.value_text(sort, value), "read_value": lambda: plainvalues.read_value(sort, plainvalues.value_text(sort, value)),
+        "read_values": lambda: plainvalues.read_values(sort, plainvalues.value_text(sort, value)), "described": lambda: shell.described(*both)}
 
 
 def scanned(sort, format, text):
@@ -144,6 +169,7 @@ class EqualAnswers(unittest.TestCase):
                 told_by.setdefault(name, set()).add(kept[name][0])
         for name, told in told_by.items():
             self.assertIn("told", told, name)
+        self.assertEqual(set(told_by), {word for name, words in INTERFACE.items() if name != "errors" for word in words.split()})
 
     def test_arguments_are_left_as_they_were(self):
         machine = machines.machine_of(DIGITS, TWO)
