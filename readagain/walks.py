@@ -63,7 +63,7 @@ def cheapest_ways(starts, steps_from):
 def ways_up_to(start, steps_from, goal):
     """Ways from a key to all keys, whatever they cost; only to some of them if the goal is come to.
 
-    Where it is of no matter which way leads to the goal, one is found much sooner so.
+    Where any way to the goal will do, one is found much sooner so.
     """
     ways = {}
     waiting = [(start, None)]
